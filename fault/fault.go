@@ -54,32 +54,26 @@ func Wrap(op string, err error) error {
 }
 
 // Code tells the first Errno in err; ErrOther, if there is none.
-func Code(err error) (code api.Errno) {
+func Code(err error) api.Errno {
 	if err == nil {
 		return api.OK
 	}
-	// A method of somebody else's error may panic; this call must not.
-	defer func() {
-		if recover() != nil {
-			code = api.ErrOther
-		}
-	}()
-	var found api.Errno
-	if ends(err) && errors.As(err, &found) {
-		return found
+	if code, found := firstErrno(err); found {
+		return code
 	}
 	return api.ErrOther
 }
 
 // Path tells the Ops of the Faults in err, the outermost first.
-func Path(err error) (ops []string) {
-	defer func() { recover() }()
+func Path(err error) []string {
 	if !ends(err) {
 		return nil
 	}
-	var f *Fault
+	var ops []string
+	// Somebody else's As may tell Faults without end, though the way has one.
 	for range deepest {
-		if !errors.As(err, &f) || f == nil {
+		f := firstFault(err)
+		if f == nil {
 			break
 		}
 		ops = append(ops, f.Op)
@@ -89,16 +83,11 @@ func Path(err error) (ops []string) {
 }
 
 // Has tells whether code is in err.
-func Has(err error, code api.Errno) (has bool) {
-	defer func() {
-		if recover() != nil {
-			has = false
-		}
-	}()
-	return ends(err) && errors.Is(err, code)
-}
+func Has(err error, code api.Errno) bool { return ends(err) && is(err, code) }
 
-// ends tells whether the way from err on comes to an end (and no panic waits on it).
+// What follows asks errors that may be anybody's: their methods may panic, and then there is nothing to be found.
+
+// ends tells whether the way from err on comes to an end.
 func ends(err error) (end bool) {
 	defer func() {
 		if recover() != nil {
@@ -114,18 +103,47 @@ func ends(err error) (end bool) {
 	return false
 }
 
-// itself tells the Fault that err is, not one that it wraps; nil, if it is none.
-func itself(err error) (is *Fault) {
+// firstErrno tells the first Errno in err; false, if there is none.
+func firstErrno(err error) (code api.Errno, found bool) {
 	defer func() {
 		if recover() != nil {
-			is = nil
+			code, found = api.OK, false
 		}
 	}()
-	var f *Fault
-	if errors.As(err, &f) && err == error(f) {
-		return f
+	found = ends(err) && errors.As(err, &code)
+	return code, found
+}
+
+// firstFault tells the first Fault in err; nil, if there is none.
+func firstFault(err error) (f *Fault) {
+	defer func() {
+		if recover() != nil {
+			f = nil
+		}
+	}()
+	if !errors.As(err, &f) {
+		return nil
 	}
-	return nil
+	return f
+}
+
+// is is errors.Is.
+func is(err error, code api.Errno) (has bool) {
+	defer func() {
+		if recover() != nil {
+			has = false
+		}
+	}()
+	return errors.Is(err, code)
+}
+
+// itself tells the Fault that err is, not one that it wraps; nil, if it is none.
+func itself(err error) *Fault {
+	f := firstFault(err)
+	if f == nil || err != error(f) {
+		return nil
+	}
+	return f
 }
 
 // words tells what err tells, nothing of nil, and nothing if that panics.

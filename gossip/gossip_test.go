@@ -61,6 +61,8 @@ func TestCompare(t *testing.T) {
 		{nil, []api.Card{made("b", 1), made("a", 1)}, keys("a", "b"), nil},
 		{[]api.Card{made("b", 1), made("a", 1)}, nil, nil, []api.Card{made("a", 1), made("b", 1)}},
 		{[]api.Card{made("b", 1), made("a", 1)}, []api.Card{made("a", 1), made("b", 1)}, nil, nil},
+		{[]api.Card{made("a", 1)}, []api.Card{made("b", 1)}, keys("b"), []api.Card{made("a", 1)}},
+		{[]api.Card{made("b", 1)}, []api.Card{made("a", 1)}, keys("a"), []api.Card{made("b", 1)}},
 		{[]api.Card{made("a", 1)}, []api.Card{made("a", 2)}, keys("a"), nil},
 		{[]api.Card{made("a", 2)}, []api.Card{made("a", 1)}, nil, []api.Card{made("a", 2)}},
 		{

@@ -129,11 +129,11 @@ func TestPushes(t *testing.T) {
 	sends(t, "P20.1: a renewal is no change", s.Tick(1))
 }
 
-// ready is a server at 59 with so many cards that were never renewed, whose guard will protect none.
-func ready(n int) *server.Server {
+// ready is a server at 59 with so many cards of such a lease that were never renewed, whose guard will protect none.
+func ready(n int, term int64) *server.Server {
 	s := server.New(0, 1)
 	for i := range n {
-		s.Receive(4, register(string(rune('a'+i)), 10))
+		s.Receive(4, register(string(rune('a'+i)), term))
 	}
 	for range n * 6 {
 		s.Desk().Guard().Renew()
@@ -143,7 +143,7 @@ func ready(n int) *server.Server {
 }
 
 func TestSweep(t *testing.T) {
-	s := ready(8)
+	s := ready(8, 10)
 	if s.Desk().Shelf().Live() != 8 {
 		t.Fatalf("P20.1: the guard protects at first: %d live", s.Desk().Shelf().Live())
 	}
@@ -167,8 +167,33 @@ func TestSweep(t *testing.T) {
 	}
 }
 
+// However many sweeps there were, who is a tick late is late.
+func TestSweepOfTheHardlyLate(t *testing.T) {
+	s := ready(8, 60)
+	if s.Tick(1); s.Desk().Shelf().Live() != 8 {
+		t.Errorf("P20.1: the sweep at 60 puts out none in time: %d live", s.Desk().Shelf().Live())
+	}
+	s = ready(8, 59)
+	if s.Tick(1); s.Desk().Shelf().Live() != 6 {
+		t.Errorf("P20.1: the sweep at 60: %d live", s.Desk().Shelf().Live())
+	}
+	s = ready(8, 79)
+	s.Crash()
+	s.Tick(1)
+	for i := range 8 {
+		s.Receive(4, register(string(rune('a'+i)), 59))
+	}
+	for range 48 {
+		s.Desk().Guard().Renew()
+	}
+	s.Tick(59)
+	if s.Tick(1); s.Desk().Shelf().Live() != 6 {
+		t.Errorf("P20.1: the sweep at 120, behind a Crash: %d live", s.Desk().Shelf().Live())
+	}
+}
+
 func TestGuardTicks(t *testing.T) {
-	s := ready(8)
+	s := ready(8, 10)
 	if s.Desk().Guard().This() != 48 {
 		t.Errorf("P20.1: a window goes on: %d", s.Desk().Guard().This())
 	}

@@ -1,6 +1,7 @@
 package tower_test
 
 import (
+	"bytes"
 	"fmt"
 	"math"
 	"slices"
@@ -215,10 +216,34 @@ func goOn(t *testing.T, where string, d *dice, a, b *world.World, acts int) {
 			t.Fatalf("%s, act %d, %+v: %+v and %+v", where, i, act, x, y)
 		}
 	}
+	alike(t, where, a, b)
+}
+
+// alike asks that two worlds have the same servers, clients and letters.
+func alike(t *testing.T, where string, a, b *world.World) {
+	t.Helper()
 	for i := 0; a.Server(i) != nil; i++ {
-		if !lease.Same(a.Server(i).Desk().Shelf().All(), b.Server(i).Desk().Shelf().All()) {
+		x, y := a.Server(i).Desk(), b.Server(i).Desk()
+		if !lease.Same(x.Shelf().All(), y.Shelf().All()) || x.Stamp() != y.Stamp() || a.Server(i).Now() != b.Server(i).Now() {
 			t.Fatalf("%s: server %d has other entries", where, i)
 		}
+		for n := range x.Recent().Seq() + 1 {
+			k, _ := x.Recent().Since(n)
+			l, _ := y.Recent().Since(n)
+			if !slices.Equal(k, l) {
+				t.Fatalf("%s: server %d has other changes", where, i)
+			}
+		}
+	}
+	for i := 0; a.Client(i) != nil; i++ {
+		x, y := a.Client(i), b.Client(i)
+		if !card.Same(x.Cache().Cards(), y.Cache().Cards()) || x.Cache().Since() != y.Cache().Since() || x.Server() != y.Server() || x.Waits() != y.Waits() || x.Known() != y.Known() {
+			t.Fatalf("%s: client %d remembers something else", where, i)
+		}
+	}
+	same := func(l, m net.Letter) bool { return l.From == m.From && l.To == m.To && bytes.Equal(l.B, m.B) }
+	if !slices.EqualFunc(a.Net().All(), b.Net().All(), same) {
+		t.Fatalf("%s: other letters are under way", where)
 	}
 }
 
@@ -229,16 +254,44 @@ func TestActsAndSettle(t *testing.T) {
 		servers := 1 + d.throw(4)
 		clients := d.throw(api.MaxNodes - servers + 1)
 		a, b := world.New(servers, clients), world.New(servers, clients)
-		goOn(t, "two new worlds", &d, a, b, 250)
+		for range 12 {
+			goOn(t, fmt.Sprint("P28.1: a world that was asked for Acts, and one that was not, seed ", seed), &d, a, b, 30)
+			tower.Acts(a, d.throw(3))
+			alike(t, fmt.Sprint("P28.1: a world that was asked for Acts just now, seed ", seed), a, b)
+		}
 		rounds := d.throw(5)
 		acts := tower.Acts(a, rounds)
-		goOn(t, fmt.Sprint("P28.1: a world that was asked for Acts, and one that was not, seed ", seed), &d, a, b, 150)
-		acts = tower.Acts(a, rounds)
 		tower.Settle(a, rounds)
 		for _, act := range acts {
 			b.Do(act)
 		}
 		goOn(t, fmt.Sprint("P28.1: a world that was settled, and one where the Acts were done, seed ", seed), &d, a, b, 150)
+	}
+}
+
+// What a client is told, and who is purged, in the acts that Acts tells leaves the world as it is, too.
+func TestActsTellsNobody(t *testing.T) {
+	w := world.New(1, 1)
+	set(w, 0, "a", 1)
+	set(w, 0, "b", 1)
+	w.Do(tick(1, 1))
+	tower.Drain(w, 2)
+	set(w, 0, "a", 2)
+	w.Do(tick(1, 25))
+	tower.Drain(w, 1)
+	held := w.Client(0).Cache().Cards()
+	if acts := tower.Acts(w, 1); len(held) != 2 || w.Net().Len() != 1 || !slices.Contains(acts, api.Act{Kind: api.Deliver}) {
+		t.Fatalf("P28.1: a delta is under way: %v", acts)
+	}
+	if !card.Same(w.Client(0).Cache().Cards(), held) {
+		t.Error("P28.1: Acts told a client")
+	}
+	w.Server(0).Desk().Set(lease.Entry{Card: api.Card{Key: api.Key{App: "a", ID: "0"}, Gone: true}})
+	w.Do(tick(0, 419))
+	entries := w.Server(0).Desk().Shelf().All()
+	tower.Acts(w, 1)
+	if !lease.Same(w.Server(0).Desk().Shelf().All(), entries) {
+		t.Error("P28.1: Acts purged somebody")
 	}
 }
 

@@ -8,6 +8,7 @@ import (
 	"frankpledge/api"
 	"frankpledge/card"
 	"frankpledge/frame"
+	"frankpledge/lease"
 	"frankpledge/mail"
 	"frankpledge/net"
 	"frankpledge/world"
@@ -223,6 +224,17 @@ func TestFullBag(t *testing.T) {
 	does(t, "Twice into a full bag", w, api.Act{Kind: api.Twice}, api.Event{Why: api.ErrFull, Bag: api.MaxBag})
 	if _, m := under(t, w, api.MaxBag-1); m.Kind != api.Digest {
 		t.Errorf("P24.1: the first of what was sent: %v", m)
+	}
+}
+
+func TestWhatCannotBeWritten(t *testing.T) {
+	w := world.New(2, 1)
+	w.Do(tick(0, 14))
+	w.Server(0).Desk().Set(lease.Entry{Card: api.Card{Key: api.Key{App: "A"}}})
+	w.Server(0).Receive(2, api.Msg{Kind: api.Ask, Op: api.Register, Key: api.Key{App: "a", ID: "b"}, N: 5, Status: api.Up})
+	does(t, "a Digest that is not right is lost, a Push behind it is not", w, tick(0, 1), api.Event{Node: 0, Bag: 1})
+	if _, m := under(t, w, 0); m.Kind != api.Push {
+		t.Errorf("P24.1: what was sent: %v", m)
 	}
 }
 
