@@ -107,6 +107,13 @@ func TestDead(t *testing.T) {
 	if got := sweep.Dead(l, -1); len(got) != 0 {
 		t.Errorf("P12.1: Dead of none: %v", got)
 	}
+	early := []lease.Entry{gone("a", 0), gone("b", -5), gone("c", 1)}
+	if got := sweep.Dead(early, api.Keep+1); !slices.Equal(got, keys("a", "b")) {
+		t.Errorf("P12.1: Dead of those seen at 0, and ahead of it: %v", got)
+	}
+	if got := sweep.Dead(early, api.Keep); len(got) != 0 {
+		t.Errorf("P12.1: Dead of those seen at 0, a tick too early: %v", got)
+	}
 	far := []lease.Entry{gone("a", math.MinInt64), gone("b", math.MaxInt64), gone("c", 1<<62), gone("d", 1<<62-api.Keep-1), gone("e", 1<<62-api.Keep)}
 	if got := sweep.Dead(far, math.MaxInt64); !slices.Equal(got, keys("a", "d")) {
 		t.Errorf("P12.1: Dead of numbers of any size: %v", got)
